@@ -1,0 +1,50 @@
+"""The sieves and sizes once more, written plainly, for the tests to compare with."""
+
+from itertools import groupby, product
+
+
+def step(row, kind):
+    """The row after one sieve."""
+    groups = [(letter, len(list(group))) for letter, group in groupby(row)]
+    if kind == "T":
+        return "".join(letter for letter, many in groups if many >= 2)
+    return "".join(letter for letter, many in groups if many == 1)
+
+
+def apply(row, pipeline):
+    """The row after all sieves of a pipeline."""
+    for kind in pipeline:
+        row = step(row, kind)
+    return row
+
+
+def plain_size(row):
+    """The length of a row and its number of equal neighbours."""
+    return (len(row), sum(1 for at in range(len(row) - 1) if row[at] == row[at + 1]))
+
+
+def words(letters, longest):
+    """All strings of these letters up to a length, the short ones first."""
+    return ["".join(word) for length in range(longest + 1) for word in product(letters, repeat=length)]
+
+
+def grown(pipeline, size):
+    """The size of promise [7], from the last sieve to the first one."""
+    n, e = size
+    for kind in pipeline[::-1]:
+        n, e = (2 * n + e, n) if kind == "T" else (n + 2 * e, e)
+    return (n, e)
+
+
+def search_pipeline(row_size, goal):
+    """The pipeline that leads from a size to a goal with a pair, found by trying both sieves."""
+    waiting = [(row_size, ())]
+    while waiting:
+        (n, e), path = waiting.pop()
+        if (n, e) == goal:
+            return "".join(path)
+        if n <= goal[0] or not 0 < e < n:
+            continue
+        waiting.append(((e, n - 2 * e), path + ("T",)))
+        waiting.append(((n - 2 * e, e), path + ("S",)))
+    return None

@@ -1,0 +1,1 @@
+"""Twinsieve: rows of letters that pass two sieves."""
