@@ -18,6 +18,28 @@ def apply(row, pipeline):
     return row
 
 
+def widened(row, kind):
+    """A shortest row that one sieve leads to this row."""
+    parts = []
+    for at, letter in enumerate(row):
+        other = "b" if letter != "b" else "c"
+        if at > 0 and row[at - 1] == letter:
+            parts.append(other if kind == "T" else other * 2)
+        parts.append(letter * 2 if kind == "T" else letter)
+    return "".join(parts)
+
+
+def rows_before(output, longest, sieves):
+    """Tuples (pipeline, row): a shortest row of limited length for each pipeline of so many sieves at most."""
+    found = [("", output)]
+    for pipeline, row in found:
+        for kind in "TS":
+            wider = widened(row, kind)
+            if len(pipeline) < sieves and len(wider) <= longest:
+                found.append((kind + pipeline, wider))
+    return found
+
+
 def plain_size(row):
     """The length of a row and its number of equal neighbours."""
     return (len(row), sum(1 for at in range(len(row) - 1) if row[at] == row[at + 1]))

@@ -2,7 +2,7 @@
 
 import unittest
 
-from reference import apply, plain_size, words
+from reference import apply, plain_size, rows_before, words
 
 from twinsieve.errors import InvalidPipeline, InvalidRow
 from twinsieve.sieves import sieve, size, stages
@@ -140,13 +140,14 @@ class Sieve(unittest.TestCase):
                 for many in range(13):
                     self.assertEqual(sieve(row, pipeline[:many]), apply(row, pipeline[:many]))
 
-    def test_rows_that_pass_twelve_sieves(self):
-        nested = "aa"
-        for letter in "bcdefghijklm":
-            nested = letter * 2 + nested[0] + letter * 2 + nested[1:]
-        self.assertEqual(sieve(nested, "S" * 12), apply(nested, "S" * 12))
-        self.assertNotEqual(sieve(nested, "S"), "")
+    def test_rows_that_pass_up_to_twelve_sieves(self):
+        self.assertEqual(sieve("abcdefghijklmmlkjihgfedcba", "S" * 12), "aa")
         self.assertEqual(sieve("abc", "S" * 12), "abc")
+        for output in ("aa", "abba", "aaa"):
+            found = rows_before(output, 200, 12)
+            self.assertIn(12, [len(pipeline) for pipeline, row in found])
+            for pipeline, row in found:
+                self.assertEqual(sieve(row, pipeline), output, (row, pipeline))
 
 
 class Stages(unittest.TestCase):

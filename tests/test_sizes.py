@@ -2,7 +2,7 @@
 
 import unittest
 
-from reference import apply, grown, plain_size, search_pipeline, words
+from reference import apply, grown, plain_size, rows_before, search_pipeline, words
 
 from twinsieve.errors import InvalidNumber, InvalidPipeline, InvalidRow
 from twinsieve.sieves import sieve, size
@@ -53,6 +53,12 @@ class LeastSize(Raising):
 
     def test_tried_rows_of_three_letters(self):
         self.check_tried_rows("abc", 8)
+
+    def test_built_rows_of_up_to_200_letters(self):
+        for output in ("a", "aa", "abba", "aabbccddeeff"):
+            # A row without pairs stays the same under S, so only few sieves add letters to it.
+            for pipeline, row in rows_before(output, 200, 12 if output != "a" else 6):
+                self.assertEqual(least_size(pipeline, output), plain_size(row), (pipeline, output))
 
     def test_examples(self):
         self.assertEqual(least_size("TS", "aa"), (9, 4))
