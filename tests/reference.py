@@ -70,3 +70,53 @@ def search_pipeline(row_size, goal):
         waiting.append(((e, n - 2 * e), path + ("T",)))
         waiting.append(((n - 2 * e, e), path + ("S",)))
     return None
+
+
+def with_runs(parts):
+    """All strings that take one of the strings from each part."""
+    return ["".join(choice) for choice in product(*parts)]
+
+
+def shortest_before(row, kind, letters):
+    """All shortest rows of these letters that one sieve leads to this row."""
+    parts = []
+    for at, letter in enumerate(row):
+        if at > 0 and row[at - 1] == letter:
+            parts.append([other if kind == "T" else other * 2 for other in letters if other != letter])
+        parts.append([letter * 2 if kind == "T" else letter])
+    return with_runs(parts)
+
+
+def all_shortest(pipeline, output, letters):
+    """All shortest rows of these letters that a pipeline leads to an output, in string order."""
+    rows = [output]
+    for kind in pipeline[::-1]:
+        rows = [before for row in rows for before in shortest_before(row, kind, letters)]
+    return sorted(rows)
+
+
+def free_letters(pipeline, output):
+    """How many pairs the sieves of a pipeline part on the way to a shortest row for the output."""
+    sizes = [grown(pipeline[at:], plain_size(output)) for at in range(1, len(pipeline) + 1)]
+    return sum(pairs for length, pairs in sizes)
+
+
+def tried_rows(letters, longest, pipeline):
+    """For each output that a row of limited length leads to: the shortest such rows in string order."""
+    found = {}
+    for row in words(letters, longest):
+        rows = found.setdefault(apply(row, pipeline), [])
+        if not rows or len(rows[0]) == len(row):
+            rows.append(row)
+    return found
+
+
+def costs_up_to(limit):
+    """Tuples (cost, pipeline) of all pipelines that cost at most so much, sorted."""
+    found = [((2, 1), "")]
+    for size, pipeline in found:
+        for kind in "TS":
+            wider = grown(kind, size)
+            if wider[0] <= limit:
+                found.append((wider, kind + pipeline))
+    return sorted((size[0], pipeline) for size, pipeline in found if size[0] <= limit)

@@ -30,7 +30,17 @@ INTERFACE = {
         "repeated_size": ["pipeline", "times", "output"],
         "repeated_size_mod": ["pipeline", "times", "output", "modulus"],
     },
+    "twinsieve.shortest": {
+        "count_shortest": ["pipeline", "output", "kinds"],
+        "nth_shortest": ["pipeline", "output", "kinds", "number"],
+        "shortest_number": ["pipeline", "row", "kinds"],
+    },
+    "twinsieve.parting": {"parting_row": ["first", "second"]},
+    "twinsieve.counting": {"count_rows": ["length", "kinds", "pipeline", "output"]},
+    "twinsieve.listing": {"pipelines": ["limit"], "count_pipelines": ["limit"], "total_cost": ["sieves"]},
 }
+# What the language lets the package import besides its own names.
+LIBRARY = {"heapq": ("heappush", "heappop"), "math": ("comb",)}
 BUILTINS = (
     "len range enumerate zip min max sum abs sorted reversed int str bool list tuple dict set isinstance ord "
     "any all divmod ValueError property classmethod staticmethod"
@@ -98,11 +108,16 @@ class Files(unittest.TestCase):
             for node in ast.walk(ast.parse(text_of(name))):
                 self.assertNotIsInstance(node, ast.Import, name)
                 if isinstance(node, ast.ImportFrom):
-                    self.assertTrue(node.module.startswith("twinsieve."), name)
-                    defined = vars(importlib.import_module(node.module))
                     for alias in node.names:
                         self.assertIsNone(alias.asname, name)
-                        self.assertEqual(defined[alias.name].__module__, node.module, name)
+                        self.check_import(name, node.module, alias.name)
+
+    def check_import(self, name, module, imported):
+        if module in LIBRARY:
+            self.assertIn(imported, LIBRARY[module], name)
+            return
+        self.assertTrue(module.startswith("twinsieve."), name)
+        self.assertEqual(vars(importlib.import_module(module))[imported].__module__, module, name)
 
     def test_statements_and_builtins(self):
         known = set(dir(builtins))

@@ -2,6 +2,7 @@
 
 import unittest
 
+from raising import Raising
 from reference import apply, plain_size, rows_before, words
 
 from twinsieve.errors import InvalidPipeline, InvalidRow
@@ -12,14 +13,6 @@ LONGEST_PIPELINES = ("T" * 12, "S" * 12, "TS" * 6, "ST" * 6, "TTSSTTSSTTSS", "SS
 # and letters of another alphabet.
 WRONG_LETTERS = "AZQ059 \n_-`{@[\u00e9\u00fc\u00df\u00e0\u0301\u0430\u03b1\u00aa"
 WRONG_SIEVES = "ts 01UQR\n\u0422\u00e9a"
-
-
-class Raising(unittest.TestCase):
-    def assert_value(self, error, value, call, *arguments):
-        with self.assertRaises(error) as caught:
-            call(*arguments)
-        self.assertIs(type(caught.exception), error)
-        self.assertEqual(caught.exception.value, value, arguments)
 
 
 def listed(row, pipeline):

@@ -2,6 +2,7 @@
 
 import unittest
 
+from raising import Raising
 from reference import apply, grown, plain_size, rows_before, search_pipeline, words
 
 from twinsieve.errors import InvalidNumber, InvalidPipeline, InvalidRow
@@ -16,14 +17,6 @@ WITHOUT_PAIR = tuple(output for output in OUTPUTS if plain_size(output)[1] == 0)
 TIMES = (0, 1, 2, 3, 7, 8, 199, 200)
 BIG = 10 ** 30 - 1
 MODULI = (1, 2, 3, 7, 10, 97, 2 ** 64, 10 ** 18 + 9, BIG)
-
-
-class Raising(unittest.TestCase):
-    def assert_value(self, error, value, call, *arguments):
-        with self.assertRaises(error) as caught:
-            call(*arguments)
-        self.assertIs(type(caught.exception), error)
-        self.assertEqual(caught.exception.value, value, arguments)
 
 
 def tried_sizes(letters, longest, pipeline):

@@ -22,3 +22,15 @@ def check_not_negative(number):
     """Raise InvalidNumber for a number below 0."""
     if number < 0:
         raise InvalidNumber(number)
+
+
+def check_kinds(kinds, row):
+    """Raise InvalidNumber for a wrong number of kinds, then InvalidRow for the first letter beyond them.
+
+    The row is valid.
+    """
+    if kinds < 2 or kinds > 26:
+        raise InvalidNumber(kinds)
+    for index, letter in enumerate(row):
+        if ord(letter) - ord("a") >= kinds:
+            raise InvalidRow(index)
