@@ -11,7 +11,7 @@ from reference import apply, free_letters, grown, plain_size, words
 
 from twinsieve.counting import count_rows
 from twinsieve.errors import InvalidNumber, InvalidPipeline, InvalidRow
-from twinsieve.sizes import pipeline_of
+from twinsieve.sizes import least_size, pipeline_of
 
 PIPELINES = words("TS", 6)
 SIX = [pipeline for pipeline in PIPELINES if len(pipeline) == 6]
@@ -247,6 +247,14 @@ class PassedOn(unittest.TestCase):
         self.assertEqual(count_rows(40, 3, pipeline, "aa"), 0)
         self.assertEqual(count_rows(40, 3, "TTT" * 1000, ""), 3 ** 40)
         self.assertEqual(count_rows(40, 3, "TTT" * 1000, "a"), 0)
+
+    def test_least_lengths(self):
+        for pipeline in SIX:
+            for output in ("a", "aa", "aaab", "z" * 12):
+                length = least_size(pipeline, output)[0]
+                expected = 25 ** free_letters(pipeline, output)
+                self.assertEqual(count_rows(length, 26, pipeline, output), expected)
+                self.assertEqual(count_rows(length - 1, 26, pipeline, output), 0)
 
     def test_long_outputs(self):
         self.assertEqual(count_rows(40, 3, "SS", "ab" * 100), 0)

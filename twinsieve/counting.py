@@ -20,24 +20,24 @@ def divide_series(series, one, two):
     return found
 
 
-def ways_to_drop(length, kinds):
+def ways_to_drop(length, spare, kinds):
     """Return a table: in how many ways letters for so many dropped runs fit in around so many kept letters.
 
     Its rows are for 0, 1, .. kept letters, no two neighbours of them equal; within a row are the numbers for
-    0, 1, .. dropped runs. There are at most length runs in all.
+    0, 1, .. dropped runs. There are at most length runs in all, and at most spare dropped ones.
     """
     # Without a kept letter, the first letter is free and each other one differs from that before it.
-    table = [divide_series(([1, 1] + [0] * length)[:length + 1], kinds - 1, 0)]
+    table = [divide_series(([1, 1] + [0] * spare)[:spare + 1], kinds - 1, 0)]
     # In front of the first kept letter, and behind the last one, each letter must
     # differ from one neighbour that is already there.
-    ways = divide_series([1] + [0] * (length - 1), kinds - 1, 0)
+    ways = divide_series([1] + [0] * spare, kinds - 1, 0)
     ways = divide_series(ways, kinds - 1, 0)
     while len(table) <= length:
         table.append(ways)
         # Between two different kept letters, a letter that differs from both leaves a
         # shorter gap of this kind. So does one that equals the right letter, if
         # another letter follows it.
-        ways = divide_series(ways[:-1], kinds - 2, kinds - 1)
+        ways = divide_series(ways[:length + 1 - len(table)], kinds - 2, kinds - 1)
     return table
 
 
@@ -118,9 +118,11 @@ def count_rows(length, kinds, pipeline, output):
     check_kinds(kinds, output)
     weights = least_weights(pipeline, length)
     letter, pair = weights[-1]
-    if letters * letter + pairs * pair > length:
+    # Each dropped run that parts no pair needs one letter at least of those to spare.
+    spare = length - letters * letter - pairs * pair
+    if spare < 0:
         return 0
-    ways = ways_to_drop(length, kinds)
+    ways = ways_to_drop(length, spare, kinds)
     counts = {(letters, pairs): 1}
     for at in reversed(range(len(pipeline))):
         parted = part_pairs(counts, kinds)
