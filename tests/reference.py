@@ -1,5 +1,6 @@
-"""The sieves and sizes once more, written plainly, for the tests to compare with."""
+"""What the program works out once more, written plainly, for the tests to compare with."""
 
+import re
 from itertools import groupby, product
 
 
@@ -18,11 +19,11 @@ def apply(row, pipeline):
     return row
 
 
-def widened(row, kind):
-    """A shortest row that one sieve leads to this row."""
+def widened(row, kind, others="bc"):
+    """A shortest row that one sieve leads to this row; the first of two other letters that can do so parts pairs."""
     parts = []
     for at, letter in enumerate(row):
-        other = "b" if letter != "b" else "c"
+        other = others[0] if letter != others[0] else others[1]
         if at > 0 and row[at - 1] == letter:
             parts.append(other if kind == "T" else other * 2)
         parts.append(letter * 2 if kind == "T" else letter)
@@ -120,3 +121,48 @@ def costs_up_to(limit):
             if wider[0] <= limit:
                 found.append((wider, kind + pipeline))
     return sorted((size[0], pipeline) for size, pipeline in found if size[0] <= limit)
+
+
+def tried_results(row):
+    """Tuples (pipeline, result) of the new rows, found by all pipelines one after the other until a length has none."""
+    found = {}
+    tried = [("", row)]
+    while any(result not in found for pipeline, result in tried):
+        for pipeline, result in tried:
+            found.setdefault(result, pipeline)
+        tried = [(pipeline + kind, step(result, kind)) for pipeline, result in tried for kind in "ST"]
+    return [(pipeline, result) for result, pipeline in found.items()]
+
+
+def best_results(row):
+    """The same tuples for rows that pass many sieves, found from the longest row down to the shortest one."""
+    best = {row: ""}
+    waiting = {row}
+    while waiting:
+        # A sieve that changes a row makes it shorter, so nothing better is found for the longest one.
+        longest = max(waiting, key=len)
+        waiting.remove(longest)
+        for kind in "ST":
+            result = step(longest, kind)
+            pipeline = best[longest] + kind
+            if result not in best:
+                waiting.add(result)
+                best[result] = pipeline
+            best[result] = min(best[result], pipeline, key=lambda tried: (len(tried), tried))
+    return sorted(((best[result], result) for result in best), key=lambda pair: (len(pair[0]), pair[0]))
+
+
+def plain_text(pipeline):
+    """The text of a pipeline."""
+    runs = [(kind, len(list(group))) for kind, group in groupby(pipeline)]
+    return " ".join(kind + (str(many) if many > 1 else "") for kind, many in runs) or "none"
+
+
+def plain_reading(text):
+    """The pipeline that has this text, or None."""
+    part = "[TS](?:[2-9]|[1-9][0-9]+)?"
+    if text == "none":
+        return ""
+    if not re.fullmatch(f"{part}(?: {part})*", text) or re.search("T[0-9]* T|S[0-9]* S", text):
+        return None
+    return "".join(part[0] * int(part[1:] or "1") for part in text.split(" "))

@@ -38,6 +38,10 @@ INTERFACE = {
     "twinsieve.parting": {"parting_row": ["first", "second"]},
     "twinsieve.counting": {"count_rows": ["length", "kinds", "pipeline", "output"]},
     "twinsieve.listing": {"pipelines": ["limit"], "count_pipelines": ["limit"], "total_cost": ["sieves"]},
+    "twinsieve.results": {"results": ["row"]},
+    "twinsieve.live": {"SieveRow": ["row"]},
+    "twinsieve.texts": {"show_pipeline": ["pipeline"]},
+    "twinsieve.readings": {"read_pipeline": ["text"]},
 }
 # What the language lets the package import besides its own names.
 LIBRARY = {"heapq": ("heappush", "heappop"), "math": ("comb",)}
@@ -45,6 +49,13 @@ BUILTINS = (
     "len range enumerate zip min max sum abs sorted reversed int str bool list tuple dict set isinstance ord "
     "any all divmod ValueError property classmethod staticmethod"
 ).split()
+# Methods of strings, lists, dicts and sets; add is for sets that a function keeps to itself.
+METHODS = (
+    "append clear copy count endswith extend find get index insert isalnum isalpha isdigit islower isspace isupper "
+    "items join keys lower partition pop remove replace reverse rfind setdefault split startswith strip update upper "
+    "values isascii isdecimal add"
+).split()
+UNDERSCORES = ("__init__", "__eq__", "__repr__", "__str__", "__len__")
 STATEMENTS = (
     ast.Assign, ast.AugAssign, ast.Expr, ast.If, ast.While, ast.For, ast.Return, ast.Break, ast.Continue,
     ast.Pass, ast.Raise, ast.FunctionDef, ast.ClassDef, ast.ImportFrom, ast.Delete, ast.Try,
@@ -127,6 +138,31 @@ class Files(unittest.TestCase):
                     self.assertIsInstance(node, STATEMENTS, (name, node.lineno))
                 if isinstance(node, ast.Name) and node.id in known:
                     self.assertIn(node.id, BUILTINS, (name, node.lineno))
+
+    def test_methods(self):
+        own = set()
+        for name in package_files():
+            own.update(node.name for node in ast.walk(ast.parse(text_of(name))) if isinstance(node, ast.FunctionDef))
+        for name in package_files():
+            for node in ast.walk(ast.parse(text_of(name))):
+                if isinstance(node, ast.Call) and isinstance(node.func, ast.Attribute):
+                    self.assertIn(node.func.attr, own.union(METHODS), (name, node.lineno))
+
+    def test_decorators_and_double_underscores(self):
+        for name in package_files():
+            for node in ast.walk(ast.parse(text_of(name))):
+                for decorator in getattr(node, "decorator_list", []):
+                    self.assertIn(ast.unparse(decorator), ("property", "classmethod"), name)
+                if isinstance(node, ast.FunctionDef) and node.name.startswith("__"):
+                    self.assertIn(node.name, UNDERSCORES, name)
+                if isinstance(node, (ast.Name, ast.Attribute)):
+                    self.assertFalse(ast.unparse(node).split(".")[-1].startswith("__"), (name, node.lineno))
+
+    def test_no_generator_expressions(self):
+        # A class of the package has __eq__, so any, sum and their like take lists.
+        for name in package_files():
+            for node in ast.walk(ast.parse(text_of(name))):
+                self.assertNotIsInstance(node, ast.GeneratorExp, name)
 
 
 if __name__ == "__main__":
